@@ -1,0 +1,1 @@
+"""Clackrow: balls on a line and in a box, exactly and for ever."""
