@@ -24,12 +24,17 @@ class Course:
         self.high = track_of(self, walls[1])
 
 
+def least_multiple(numbers):
+    """The least whole number above 0 that all these, which are above 0, divide."""
+    common = 1
+    for number in numbers:
+        common = common // greatest_divisor(common, number) * number
+    return common
+
+
 def common_bottom(ratios):
     """The least whole number that all bottoms divide."""
-    common = 1
-    for top, bottom in ratios:
-        common = common // greatest_divisor(common, bottom) * bottom
-    return common
+    return least_multiple([bottom for top, bottom in ratios])
 
 
 def track_of(course, thing):

@@ -35,6 +35,15 @@ NODES = (
 )
 
 
+WALKED = ["zip", "enumerate", "reversed", "range", "items", "keys", "values"]
+WALKERS = ["list", "tuple", "dict", "sorted", "sum", "any", "all", "enumerate", "zip", "min", "max"]
+
+
+def called_name(node):
+    """The name by which a call calls, of a method too."""
+    return node.func.attr if isinstance(node.func, ast.Attribute) else getattr(node.func, "id", "")
+
+
 def files():
     return sorted(PACKAGE.rglob("*.py"))
 
@@ -96,6 +105,29 @@ class Language(unittest.TestCase):
                     if isinstance(sign, (ast.Is, ast.IsNot)):
                         self.assertTrue(isinstance(right, ast.Constant), (path.name, node.lineno))
                         self.assertIn(right.value, [None, True, False], (path.name, node.lineno))
+
+    def test_what_is_walked_at_once_is_not_kept(self):
+        for path in files():
+            tree = ast.parse(path.read_text("utf-8"))
+            walked = []
+            for node in ast.walk(tree):
+                if isinstance(node, (ast.For, ast.comprehension)):
+                    walked.append(node.iter)
+                elif isinstance(node, ast.Call) and isinstance(node.func, ast.Name) and node.func.id in WALKERS:
+                    walked += node.args
+            for node in ast.walk(tree):
+                if isinstance(node, ast.Call) and called_name(node) in WALKED:
+                    self.assertTrue(any([node is one for one in walked]), (path.name, node.lineno))
+
+    def test_sets_are_not_kept(self):
+        for path in files():
+            tree = ast.parse(path.read_text("utf-8"))
+            within = [one for node in ast.walk(tree) if isinstance(node, ast.Call) and called_name(node) in ["sorted", "len"]
+                      for one in node.args]
+            for node in ast.walk(tree):
+                self.assertNotIsInstance(node, (ast.Set, ast.SetComp), path.name)
+                if isinstance(node, ast.Call) and called_name(node) == "set":
+                    self.assertTrue(any([node is one for one in within]), (path.name, node.lineno))
 
     def test_functions(self):
         for path, node in nodes():

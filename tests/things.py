@@ -171,3 +171,41 @@ def stepped(row, walls, t, most=400):
         if len(told) > most:
             return ("many", told)
         last = one.state()
+
+
+def counts_of(stepped_so):
+    """The meetings and knocks, as 5.2 counts them, of a run that was stepped."""
+    counts = {"": 0, "low": 0, "high": 0}
+    for (moment, first, last, where), came in zip(stepped_so[1], stepped_so[2]):
+        many = last - first + 1
+        counts[""] += many * (many - 1) if where else many * (many - 1) // 2
+        if where:
+            counts[where] += came
+    return (counts[""], counts["low"], counts["high"])
+
+
+def stretches(row, walls, end):
+    """The run to a moment, a fraction, as a list of (from, to, balls), between which nothing comes; each ball's place
+    and speed are those at from."""
+    one = Stepper(row, walls)
+    told = []
+    while one.now < end:
+        wait = one.wait()
+        until = end if wait is None else min(end, one.now + wait)
+        told.append((one.now, until, [tuple(each[:2]) for each in one.balls]))
+        one.go(until - one.now)
+        for group in one.groups():
+            one.rebound(group)
+    return told
+
+
+def moments_at(row, walls, k, place, end):
+    """The first moment of each stretch of the run at which ball k is at a place, rising; all are fractions."""
+    found = []
+    for begin, until, balls in stretches(row, walls, end):
+        at, speed = balls[k]
+        if at == place:
+            found.append(begin)
+        elif speed != 0 and begin < begin + (place - at) / speed <= until:
+            found.append(begin + (place - at) / speed)
+    return sorted(set(found))
