@@ -83,7 +83,7 @@ def at_once(row, walls, t):
 def passes(speed, gap, trip, ticks):
     """How many moments above nought and not above ticks there are at which what has this speed has gone on by gap,
     or, where trip is not None, by gap and any number of trips."""
-    # Of what stands there are none here: no two lines are one, and none that stands at a wall comes to it.
+    # Speed 0 leads to none below, as it should: no two lines are one, and what rests at a wall doesn't come to it.
     if speed < 0:
         speed, gap = -speed, -gap
     top, bottom = ticks
