@@ -32,9 +32,14 @@ def is_ball_form(thing):
     return is_tuple(thing, 3) and is_ratio(thing[0]) and is_ratio(thing[1]) and is_whole(thing[2])
 
 
+def is_weight(thing):
+    """Whether thing is a ball's weight."""
+    return is_whole(thing) and 1 <= thing <= MOST_WEIGHT
+
+
 def is_ball(thing):
     """Whether thing is a ball."""
-    return is_ball_form(thing) and 1 <= thing[2] <= MOST_WEIGHT
+    return is_ball_form(thing) and is_weight(thing[2])
 
 
 def follows(left, right):
