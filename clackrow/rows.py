@@ -32,6 +32,11 @@ def is_ball_form(thing):
     return is_tuple(thing, 3) and is_ratio(thing[0]) and is_ratio(thing[1]) and is_whole(thing[2])
 
 
+def is_row_form(thing):
+    """Whether thing has a row's form, however many balls it has and wherever they are."""
+    return isinstance(thing, tuple) and len(thing) > 0 and all([is_ball_form(ball) for ball in thing])
+
+
 def is_weight(thing):
     """Whether thing is a ball's weight."""
     return is_whole(thing) and 1 <= thing <= MOST_WEIGHT
@@ -79,9 +84,7 @@ def is_row(walls, thing):
 
 def is_even(row):
     """Whether all weights of the row are alike."""
-    if not isinstance(row, tuple) or len(row) == 0 or not all([is_ball_form(ball) for ball in row]):
-        return False
-    return all([ball[2] == row[0][2] for ball in row])
+    return is_row_form(row) and all([ball[2] == row[0][2] for ball in row])
 
 
 def is_still(walls):

@@ -3,6 +3,7 @@
 from clackrow.courses import Course, came_to_wall, groups_at, moment_of, placed, rebound, shut_moment, soonest, ticks_of
 from clackrow.errors import NoEnd, Shut, TooMany
 from clackrow.ratios import less, ratio
+from clackrow.rows import is_row_form, is_wall_pair
 
 MOST_GROUPS = 400
 # What moment 0 is in ticks, whatever the tick.
@@ -62,8 +63,8 @@ def gone(row, walls, t):
 
 def is_quiet(row, walls):
     """Whether nothing ever comes."""
-    # Ahead of walls that meet some ball comes to one of them, so those need not be asked.
-    return soonest(Course(row, walls)) is None
+    # What is no row is not quiet. Ahead of walls that meet some ball comes to one of them, so those need not be asked.
+    return is_row_form(row) and is_wall_pair(walls) and soonest(Course(row, walls)) is None
 
 
 def ended(row, walls):

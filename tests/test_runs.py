@@ -7,7 +7,8 @@ from clackrow import runs
 from clackrow.errors import ClackError, NoEnd, Shut, Together, TooMany
 from clackrow.rows import energy_of, is_row, push_of
 from clackrow.runs import comings, ended, gone, is_quiet, turned
-from tests.things import NOUGHT, OPEN, box, chance_row, high_at, low_at, pair, row_of, stepped, value_of, wall
+from tests.things import (NOUGHT, OPEN, OTHER_KINDS, box, chance_row, high_at, low_at, pair, row_of, stepped, value_of,
+                          wall)
 
 GREAT = 10 ** 60
 # One ball that knocks at 1/2, 3/2, 5/2 ..
@@ -249,6 +250,14 @@ class Quiet(unittest.TestCase):
         walls = (wall(0, 1), wall(10, -1))
         for row in [row_of((5, 0)), row_of((0, 1)), row_of((10, -1)), row_of((0, 1), (10, -1)), row_of((4, 0))]:
             self.assertIs(is_quiet(row, walls), False)
+
+    def test_of_anything(self):
+        row = row_of((0, 5, 2))
+        for thing in OTHER_KINDS + [list(row), row[0], (row,), (row[0][:2],), (row[0] + (1,),), ((NOUGHT, NOUGHT, "1"),)]:
+            self.assertIs(is_quiet(thing, OPEN), False, thing)
+        for thing in OTHER_KINDS + [list(OPEN), (None,), (None, None, None), (None, NOUGHT), (NOUGHT, None)]:
+            self.assertIs(is_quiet(row, thing), False, thing)
+            self.assertIs(is_quiet(thing, thing), False, thing)
 
     def test_by_chance_it_goes_with_the_end(self):
         for row, walls, t in rows_by_chance(44, 3):
