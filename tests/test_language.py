@@ -95,6 +95,8 @@ class Language(unittest.TestCase):
             if isinstance(node, ast.Constant):
                 self.assertNotIsInstance(node.value, (float, complex), where)
                 self.assertFalse(isinstance(node.value, str) and chr(37) in node.value, where)
+            if isinstance(node, ast.FormattedValue):
+                self.assertIsNone(node.format_spec, where)
             if isinstance(node, ast.BinOp) and isinstance(node.op, ast.Pow):
                 self.assertTrue(isinstance(node.right, ast.Constant) and 0 <= node.right.value <= 64, where)
 

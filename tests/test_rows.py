@@ -6,7 +6,7 @@ from fractions import Fraction
 
 from clackrow import rows
 from clackrow.rows import energy_of, framed, is_even, is_row, is_still, middle_of, push_of, walls_good
-from tests.things import NO_WHOLES, OTHER_KINDS, ball, pair, value_of, wall
+from tests.things import NO_WHOLES, NOUGHT, OTHER_KINDS, ball, pair, value_of, wall
 
 OPEN = (None, None)
 BOX = (wall(0), wall(10))
@@ -232,6 +232,8 @@ class EvenAndStill(unittest.TestCase):
             self.assertIs(is_still(thing), False, thing)
             if thing is not None:
                 self.assertIs(is_still((thing, None)), False, thing)
+        for weight in NO_WHOLES:
+            self.assertIs(is_even(((NOUGHT, NOUGHT, weight),)), False, weight)
 
 
 class Sums(unittest.TestCase):
